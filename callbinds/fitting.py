@@ -101,6 +101,16 @@ def one_entry(parameter, number, many, firsts):
     return ("free",)
 
 
+def fewest_by_place(form, names):
+    """Tell how many things by place it takes that no place lacks one, where boths of these names are told theirs."""
+    parameters = form.parameters()
+    for number in reversed(range(form.places())):
+        parameter = parameters[number]
+        if not parameter.free() and not (parameter.by_name() and parameter.name in names):
+            return number + 1
+    return 0
+
+
 def refuse(word, number):
     """Refuse by the class of a misfit's word."""
     if word == "doubled":

@@ -1,7 +1,13 @@
-"""What several tests need: forms and calls written shortly."""
+"""What several tests need: forms and calls written shortly, and many small ones."""
 
+import itertools
+
+from callbinds import errors
 from callbinds.forms import Form
 from callbinds.parameters import Bag, Both, Seat, Tag, Tail
+
+CLASSES = {"doubled": errors.Doubled, "over": errors.Over, "barred": errors.Barred, "again": errors.Again,
+           "strange": errors.Strange, "lacking": errors.Lacking}
 
 
 def parameter(text):
@@ -34,3 +40,46 @@ def call(many, names=""):
 def letters(number):
     """A name of its own for each number from 0 to 675."""
     return "abcdefghijklmnopqrstuvwxyz"[number // 26] + "abcdefghijklmnopqrstuvwxyz"[number % 26]
+
+
+def small_forms():
+    """All forms of at most two places, and of a tail, a tag, a bag, a bar or not."""
+    ends = list(itertools.product([[], [Tail("a")]], [[], [Tag("t")], [Tag("t", True)]], [[], [Bag("b")]], [[], ["x"]]))
+    for many in range(3):
+        for sorts in itertools.product([(Seat, False), (Seat, True), (Both, False), (Both, True)], repeat=many):
+            places = [kind("ab"[at], free) for at, (kind, free) in enumerate(sorts)]
+            for tail, tags, bag, bars in ends:
+                yield Form(places + tail + tags + bag, bars)
+
+
+def small_names():
+    for many in range(3):
+        yield from itertools.product("abtxy", repeat=many)
+    yield from [("a", "a", "a"), ("a", "b", "a"), ("x", "y", "t"), ("b", "a", "t"), ("x", "x", "y"), ("y", "a", "y")]
+
+
+def chance_form(dice):
+    """A form of up to 24 parameters and 60 bars; its names are among those of `chance_names`."""
+    names = [letters(k) for k in range(90)]
+    dice.shuffle(names)
+    # A low chance of each sort makes forms in which one sort comes often.
+    seats, frees = dice.choice([0.1, 0.5, 0.9]), dice.choice([0.1, 0.5, 0.9])
+    places = []
+    for name in names[:dice.randrange(13)]:
+        places.append((Seat if dice.random() < seats else Both)(name, dice.random() < frees))
+    tail = [Tail("t")] * dice.randrange(2)
+    tags = [Tag(name, dice.random() < frees) for name in names[13:13 + dice.randrange(11)]]
+    bag = [Bag("b")] * dice.randrange(2)
+    return Form(places + tail + tags + bag, names[24:24 + dice.choice([0, 3, 20, 60])])
+
+
+def chance_names(dice, made, doubles):
+    """Names for a call on this form, most of them such that it has; names come twice where doubles is True."""
+    parameters, bars = made.told()
+    known = [told[1] for told in parameters if told[0] in ("both", "tag")]
+    pool = known * dice.choice([0, 1, 1]) + dice.sample(bars, min(len(bars), dice.choice([0, 0, 0, 2])))
+    pool += [letters(k) for k in dice.sample(range(100, 140), dice.choice([0, 0, 1, 5]))]
+    if doubles:
+        pool += pool[:dice.choice([0, 1, 4])]
+    dice.shuffle(pool)
+    return pool[:dice.choice([len(pool), len(pool) // 2, 1])]

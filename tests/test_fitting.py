@@ -9,10 +9,7 @@ from callbinds.calls import call_of, laid
 from callbinds.fitting import fits, misfits, paper
 from callbinds.forms import Form
 from callbinds.parameters import Bag, Both, Seat, Tag, Tail
-from helper import call, form, letters
-
-CLASSES = {"doubled": errors.Doubled, "over": errors.Over, "barred": errors.Barred, "again": errors.Again,
-           "strange": errors.Strange, "lacking": errors.Lacking}
+from helper import CLASSES, call, form, letters, small_forms, small_names
 
 
 def expected_misfits(made, many, names):
@@ -39,22 +36,6 @@ def expected_misfits(made, many, names):
             if not placed and not named:
                 found.append(("lacking", p))
     return found
-
-
-def small_forms():
-    """All forms of at most two places, and of a tail, a tag, a bag, a bar or not."""
-    ends = list(itertools.product([[], [Tail("a")]], [[], [Tag("t")], [Tag("t", True)]], [[], [Bag("b")]], [[], ["x"]]))
-    for many in range(3):
-        for sorts in itertools.product([(Seat, False), (Seat, True), (Both, False), (Both, True)], repeat=many):
-            places = [kind("ab"[at], free) for at, (kind, free) in enumerate(sorts)]
-            for tail, tags, bag, bars in ends:
-                yield Form(places + tail + tags + bag, bars)
-
-
-def small_names():
-    for many in range(3):
-        yield from itertools.product("abtxy", repeat=many)
-    yield from [("a", "a", "a"), ("a", "b", "a"), ("x", "y", "t"), ("b", "a", "t"), ("x", "x", "y"), ("y", "a", "y")]
 
 
 class Misfits(unittest.TestCase):
