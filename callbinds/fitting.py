@@ -111,6 +111,21 @@ def fewest_by_place(form, names):
     return 0
 
 
+def first_both(form, names):
+    """Tell the number of the first both that has one of these names, or None."""
+    for number, parameter in enumerate(form.parameters()[:form.places()]):
+        if parameter.by_name() and parameter.name in names:
+            return number
+    return None
+
+
+def refuse_doubled(names):
+    """Refuse by the first thing by name that has the name of an earlier one."""
+    for number, name in enumerate(names):
+        if name in names[:number]:
+            raise Doubled(number)
+
+
 def refuse(word, number):
     """Refuse by the class of a misfit's word."""
     if word == "doubled":

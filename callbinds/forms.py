@@ -14,13 +14,18 @@ class Form:
     """A list of parameters, numbered from 0, and bars."""
 
     def __init__(self, parameters, bars=None):
+        names = [] if bars is None else bars
+        refuse_too_many(parameters, names)
+        refuse_bad_order(parameters)
+        refuse_bars_without_name(names)
+        refuse_twice(parameters, names)
+        self.keep(parameters, names)
+
+    def keep(self, parameters, bars):
+        """Take on these parameters and bars, which are in order."""
         # Copies, so that nothing done later to the asker's lists has a bearing on the form.
         self.row = list(parameters)
-        self.bar_names = [] if bars is None else list(bars)
-        refuse_too_many(self.row, self.bar_names)
-        refuse_bad_order(self.row)
-        refuse_bars_without_name(self.bar_names)
-        refuse_twice(self.row, self.bar_names)
+        self.bar_names = list(bars)
         self.place_count = len([parameter for parameter in self.row if parameter.by_place()])
         self.tail_number = number_of_word(self.row, "tail")
         self.bag_number = number_of_word(self.row, "bag")
@@ -55,6 +60,13 @@ class Form:
         return ([parameter.told() for parameter in self.row], list(self.bar_names))
 
 
+def told_form(parameters, bars):
+    """Make a form that is told of another one: how many parameters and bars it has is not looked at."""
+    form = Form([])
+    form.keep(parameters, bars)
+    return form
+
+
 def refuse_too_many(parameters, bars):
     """Refuse more parameters or bars than a form may have."""
     if len(parameters) > MOST_PARAMETERS:
@@ -83,7 +95,7 @@ def refuse_bars_without_name(bars):
 def refuse_twice(parameters, bars):
     """Refuse two alike names among those of the boths, the tags and the bars."""
     seen = set()
-    for name in [parameter.name for parameter in parameters if parameter.by_name()] + bars:
+    for name in [parameter.name for parameter in parameters if parameter.by_name()] + list(bars):
         if name in seen:
             raise Twice(name)
         seen.add(name)

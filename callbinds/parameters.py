@@ -31,9 +31,13 @@ class Parameter:
         """Tell whether it takes one thing by its name."""
         return self.word in BY_NAME
 
+    def takes_one(self):
+        """Tell whether it takes one thing: a tail and a bag take all that are left over."""
+        return self.word in OF_ONE_THING
+
     def told(self):
         """Tell it as a tuple."""
-        if self.word in OF_ONE_THING:
+        if self.takes_one():
             return (self.word, self.name, self.may_lack)
         return (self.word, self.name)
 

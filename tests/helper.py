@@ -3,6 +3,7 @@
 import itertools
 
 from callbinds import errors
+from callbinds.changes import changed
 from callbinds.forms import Form
 from callbinds.parameters import Bag, Both, Seat, Tag, Tail
 
@@ -35,6 +36,21 @@ def call(many, names=""):
     """A call of ones and nameds: many things by place, and things by the names in their order."""
     words = names.split()
     return [("one", 7 + i) for i in range(many)] + [("named", word, 40 + j) for j, word in enumerate(words)]
+
+
+def answer_of(deed, *handed):
+    """What a def tells, or the class and the number of its refusal."""
+    try:
+        return deed(*handed)
+    except errors.Misfit as refused:
+        return (type(refused), refused.number)
+
+
+def behind(asked, changes):
+    """The call behind all these changes."""
+    for change in changes:
+        asked = changed(asked, change)
+    return asked
 
 
 def letters(number):

@@ -6,19 +6,12 @@ import random
 import unittest
 
 from callbinds.calls import call_of
-from callbinds.changes import changed
 from callbinds.errors import NoChange
 from callbinds.fitting import fits
 from callbinds.forms import Form
 from callbinds.mending import mends, nearest
 from callbinds.parameters import Bag, Both, Seat, Tag, Tail
-from helper import call, chance_form, chance_names, form, letters, small_forms
-
-
-def behind(asked, changes):
-    for change in changes:
-        asked = changed(asked, change)
-    return asked
+from helper import behind, call, chance_form, chance_names, form, letters, small_forms
 
 
 def reckoned(made, many, names):
