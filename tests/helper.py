@@ -99,3 +99,13 @@ def chance_names(dice, made, doubles):
         pool += pool[:dice.choice([0, 1, 4])]
     dice.shuffle(pool)
     return pool[:dice.choice([len(pool), len(pool) // 2, 1])]
+
+
+def stands_as_a_form(told):
+    """Whether the parameters and the bars of a told form, of whatever many, are such as a form may have."""
+    parameters, bars = told.told()
+    groups = [["seat", "both"], ["tail"], ["tag"], ["bag"]]
+    numbers = [at for word, *rest in parameters for at, group in enumerate(groups) if word in group]
+    names = [one[1] for one in parameters if one[0] in ("both", "tag")] + bars
+    return (numbers == sorted(numbers) and numbers.count(1) < 2 and numbers.count(3) < 2
+            and len(names) == len(set(names)))

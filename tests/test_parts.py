@@ -12,7 +12,8 @@ from callbinds.forms import Form
 from callbinds.mending import mends
 from callbinds.parameters import Bag, Both, Seat, Tag, Tail
 from callbinds.parts import Part
-from helper import CLASSES, answer_of, behind, call, chance_form, chance_names, form, letters, small_forms, small_names
+from helper import (CLASSES, answer_of, behind, call, chance_form, chance_names, form, letters, small_forms,
+                    small_names, stands_as_a_form)
 
 
 def first_but_lacking(made, asked):
@@ -146,6 +147,7 @@ class Further(unittest.TestCase):
 class Left(unittest.TestCase):
     def check_bounds(self, made, names, left):
         self.assertIs(type(left), Form)
+        self.assertTrue(stands_as_a_form(left), left.told())
         parameters, bars = left.told()
         self.assertLessEqual(len(parameters), len(made.parameters()))
         boths = [told for told in made.told()[0] if told[0] == "both"]
